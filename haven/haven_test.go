@@ -255,6 +255,9 @@ func stepped(t *testing.T, ahead [][]string, items ...string) []string {
 		h := mounted(t, other)
 		other.Left = left
 		e := h.Begin(items)
+		if e != api.OK && e != api.ErrGone {
+			t.Fatalf("Begin(%.200q) = %d", items, e)
+		}
 		if e != api.OK {
 			h = mounted(t, other.Again(lasted))
 		}

@@ -486,18 +486,9 @@ func powerGoes(t *testing.T, m maker, d *testdisk.Disk, items []string, before s
 func settles(t *testing.T, m maker, d *testdisk.Disk, before state, states []state) int {
 	t.Helper()
 	last, first := -1, -1
-	for round := 0; ; round++ {
+	for round := range mostRounds {
 		h := mounted(t, d)
-		done, steps := h.Progress()
-		switch {
-		case steps > 0:
-			sees(t, h, states[done], done, len(states)-1)
-		case hostText(h) == states[len(states)-1].text():
-			done = len(states) - 1
-		default:
-			sees(t, h, before, 0, 0)
-			done = -1
-		}
+		done := place(t, h, before, states)
 		if done < last {
 			t.Fatalf("P8: %d steps done, and %d at a later mount", last, done)
 		}
@@ -505,7 +496,7 @@ func settles(t *testing.T, m maker, d *testdisk.Disk, before state, states []sta
 		if round == 0 {
 			first = done
 		}
-		if steps == 0 {
+		if done < 0 || done == len(states)-1 {
 			return first
 		}
 		if e := h.Begin([]string{"no item"}); e != api.ErrBusy {
@@ -517,4 +508,6 @@ func settles(t *testing.T, m maker, d *testdisk.Disk, before state, states []sta
 		}
 		d = d.Again(m.Intn)
 	}
+	t.Fatalf("P10: %d steps done, and it is never over", last)
+	return 0
 }
